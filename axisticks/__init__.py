@@ -1,0 +1,1 @@
+"""Rules that mark an axis, understood for all ranges at once."""

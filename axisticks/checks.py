@@ -1,9 +1,14 @@
-"""What counts as a whole number and as a range."""
+"""What counts as a whole number, as a base and as a range."""
 
 
 def is_whole(value):
     """Tell whether a value is an integer and no Boolean."""
     return isinstance(value, int) and not isinstance(value, bool)
+
+
+def is_base(value):
+    """Tell whether a value is a base."""
+    return is_whole(value) and value >= 2
 
 
 def is_span(value):

@@ -25,3 +25,19 @@ def reach(kind, most, low, size):
     if kind == "cover":
         return (low // size + most) * size
     return (-(-low // size) + most) * size - 1
+
+
+def never_fits(kind, most, size, length):
+    """Tell whether steps of a size fit no range of a length, wherever its ends are."""
+    if kind == "inside":
+        return length >= (most + 1) * size
+    return length > most * size
+
+
+def always_fits(kind, most, size, length):
+    """Tell whether steps of a size fit all ranges of a length, wherever their ends are."""
+    if kind == "inside":
+        return length < most * size
+    if kind == "cover":
+        return length <= (most - 1) * size
+    return length <= most * size

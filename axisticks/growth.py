@@ -1,9 +1,9 @@
 """How the step changes as a range grows at its high end."""
 
+from axisticks.arguments import check_rule
 from axisticks.checks import is_whole
-from axisticks.errors import InvalidNumber, InvalidRule
+from axisticks.errors import InvalidNumber
 from axisticks.fitting import measure, reach
-from axisticks.rules import Rule
 
 
 def _last_high(rule, low, step):
@@ -14,8 +14,7 @@ def _last_high(rule, low, step):
 
 def steps_from(rule, low, most_high):
     """Return the ascending `(high, step)` at which the step of the ranges from a low end on changes."""
-    if not isinstance(rule, Rule):
-        raise InvalidRule(rule)
+    check_rule(rule)
     for number in (low, most_high):
         if not is_whole(number):
             raise InvalidNumber(number)

@@ -1,9 +1,10 @@
 """Rules that choose the step and the marks of a range."""
 
-from axisticks.checks import is_span, is_whole
+from axisticks.checks import is_base, is_span, is_whole
 from axisticks.errors import InvalidRange, InvalidRule
 from axisticks.fitting import measure, reach
-from axisticks.powers import log_of, power_of
+from axisticks.ladder import low_rung, rungs_of, step_at
+from axisticks.powers import power_of
 
 LEAST_MOST = {"inside": 1, "cover": 2, "length": 1}
 
@@ -25,22 +26,12 @@ def _mantissas_fit(base, mantissas):
 
 
 def _arguments_fit(base, kind, mantissas, most):
-    if not is_whole(base) or base < 2:
-        return False
-    return _kind_and_most_fit(kind, most) and _mantissas_fit(base, mantissas)
+    return is_base(base) and _kind_and_most_fit(kind, most) and _mantissas_fit(base, mantissas)
 
 
-def _rungs_by_size(base, mantissas):
-    """Return the steps from 1 up to below the base, `(mantissa, power)`, by their sizes in one small unit."""
-    top = log_of(base, max(mantissas, key=int))
-    rungs = {}
-    for mantissa in mantissas:
-        power = -log_of(base, mantissa)
-        rungs[mantissa * power_of(base, top + power)] = (mantissa, power)
-    return rungs
-
-
-def _is_dividing(base, sizes):
+def _is_dividing(base, rungs):
+    lowest = min([int(power) for _, power in rungs])
+    sizes = [mantissa * power_of(base, power - lowest) for mantissa, power in rungs]
     greater = sizes[1:] + [base * sizes[0]]
     return all([above % size == 0 for size, above in zip(sizes, greater)])
 
@@ -51,14 +42,13 @@ class Rule:
     def __init__(self, base, kind, mantissas, most):
         if not _arguments_fit(base, kind, mantissas, most):
             raise InvalidRule((base, kind, mantissas, most))
-        rungs = _rungs_by_size(base, mantissas)
-        sizes = sorted(rungs, key=int)
+        rungs = rungs_of(base, mantissas)
         self._base = base
         self._kind = kind
         self._mantissas = sorted(mantissas, key=int)
         self._most = most
-        self._dividing = _is_dividing(base, sizes)
-        self._rungs = [rungs[size] for size in sizes]
+        self._dividing = _is_dividing(base, rungs)
+        self._rungs = rungs
 
     @property
     def base(self):
@@ -93,12 +83,10 @@ class Rule:
         if not is_span(span):
             raise InvalidRange(span)
         low, high, digits = span
-        rung = self._low_rung(high - low, digits)
-        step = self._step_at(rung)
-        while not self._fits(step, span):
-            rung = rung + 1
-            step = self._step_at(rung)
-        return step
+        number = low_rung(self._base, self._rungs, self._most, high - low, digits)
+        while not self._fits(step_at(self._rungs, number), span):
+            number = number + 1
+        return step_at(self._rungs, number)
 
     def marks(self, span):
         """Return `(first, last)`, the marks of a range as multiples of its step."""
@@ -113,20 +101,6 @@ class Rule:
         """Return how many marks a range has."""
         first, last = self.marks(span)
         return last - first + 1
-
-    def _step_at(self, rung):
-        """Return a step by its rung: the steps are numbered in ascending order, 0 is the least that is at least 1."""
-        power, place = divmod(rung, len(self._rungs))
-        mantissa, shift = self._rungs[place]
-        return mantissa, power + shift
-
-    def _low_rung(self, length, digits):
-        """Return a rung below which no step fits a range of this length, wherever it is.
-
-        Steps that go more than `most + 1` times into the length are too small for each kind.
-        """
-        spare = log_of(self._base, self._most + 1) + 1
-        return (log_of(self._base, length) - digits - spare) * len(self._rungs)
 
     def _fits(self, step, span):
         low, high, digits = span

@@ -45,18 +45,18 @@ class Paths:
         rounds = {one: 0 for one in self._toward}
         ready = list(self._resting)
         done = 0
-        most = None
         # A class is ready when all classes that may follow it are done; those on a circle never are.
         while len(ready) > 0:
             following = ready.pop()
             done = done + 1
-            most = rounds[following] + 1 if most is None else max(int(most), rounds[following] + 1)
             for one, moved in self._sources[following]:
                 rounds[one] = max(int(rounds[one]), rounds[following] + self._rounds_of(following, moved))
                 waiting[one] = waiting[one] - 1
                 if waiting[one] == 0:
                     ready.append(one)
-        return most if done == len(self._toward) else None
+        if done == 0 or done < len(self._toward):
+            return None
+        return 1 + max([int(rounds[one]) for one in rounds])
 
     def _layers(self, many):
         """Return dicts, for 0, 1, .. `many` rounds: the classes from which so many or more may be taken to rest.

@@ -98,10 +98,10 @@ def _counting(key, steps, first, past):
     return counting
 
 
-def sections(base, keys):
-    """Return tuples `(digits, unit, first, past, width, ladders)`: the rows of lengths between two bounds.
+def lengths_of_rows(base, keys):
+    """Return tuples `(digits, unit, length, width, ladders)` for rows of ascending lengths, from 1 up to the base.
 
-    The unit is told with the digits, `first` and `past` in quarters of it; the last section ends at the base.
+    The unit is told with the digits, the length in quarters of it.
     """
     steps = {key: candidates(base, key, 1, base) for key in keys}
     digits = digits_of(steps)
@@ -115,28 +115,27 @@ def sections(base, keys):
             for _, size in counting[key]:
                 unit = gcd(unit, size)
         width, combed = quartered(counting, unit, UNIT)
-        found.append((digits, unit, UNIT * first // unit, UNIT * past // unit, width, combed))
+        for length in range(UNIT * first // unit, UNIT * past // unit, 2):
+            found.append((digits, unit, length, width, combed))
     return found
 
 
 def has_members(base, formula):
     """Tell whether the set of a formula has any member."""
-    for _, _, first, past, width, ladders in sections(base, keys_of(formula)):
-        for length in range(first, past, 2):
-            if mask_of(formula, row_of(length, width, ladders)) != 0:
-                return True
+    for _, _, length, width, ladders in lengths_of_rows(base, keys_of(formula)):
+        if mask_of(formula, row_of(length, width, ladders)) != 0:
+            return True
     return False
 
 
 def ratios(base, one, other):
     """Return the fractions `(number, of)` that the step of a rule divided by that of another one can be."""
     found = {}
-    for _, _, first, past, width, ladders in sections(base, [one, other]):
-        for length in range(first, past, 2):
-            shares = row_of(length, width, ladders)[2]
-            for _, size, _, taken in shares[one]:
-                for _, other_size, _, other_taken in shares[other]:
-                    if taken & other_taken != 0:
-                        divisor = gcd(size, other_size)
-                        found[size // divisor, other_size // divisor] = True
+    for _, _, length, width, ladders in lengths_of_rows(base, [one, other]):
+        shares = row_of(length, width, ladders)[2]
+        for _, size, _, taken in shares[one]:
+            for _, other_size, _, other_taken in shares[other]:
+                if taken & other_taken != 0:
+                    divisor = gcd(size, other_size)
+                    found[size // divisor, other_size // divisor] = True
     return list(found)

@@ -3,7 +3,7 @@
 from axisticks.formulas import keys_of, mask_of
 from axisticks.lines import first_low
 from axisticks.powers import power_of
-from axisticks.rows import UNIT, row_of, sections
+from axisticks.rows import UNIT, lengths_of_rows, row_of
 
 
 def reduced(base, number, digits):
@@ -21,12 +21,11 @@ def _rows_told(base, formula, sure):
     next single one. Told is whether some ranges of the row are members, or with `sure` whether all are.
     """
     rows = []
-    for digits, unit, first, past, width, ladders in sections(base, keys_of(formula)):
-        for length in range(first, past, 2):
-            row = row_of(length, width, ladders)
-            mask = mask_of(formula, row)
-            told = mask == row[1] if sure else mask != 0
-            rows.append((digits, length // UNIT * unit, length % UNIT == 0, told))
+    for digits, unit, length, width, ladders in lengths_of_rows(base, keys_of(formula)):
+        row = row_of(length, width, ladders)
+        mask = mask_of(formula, row)
+        told = mask == row[1] if sure else mask != 0
+        rows.append((digits, length // UNIT * unit, length % UNIT == 0, told))
     return rows
 
 
@@ -48,17 +47,10 @@ def stretches(base, formula, sure):
 
 
 def _whole_lengths(base, stretch, one):
-    """Return `(least, past)` of the whole lengths in a stretch that is multiplied by a power of the base."""
-    first, last, has_first, has_last = stretch
-    size = power_of(base, first[1])
-    least = first[0] * one // size if has_first else first[0] * one // size + 1
-    if least * size < first[0] * one:
-        least = least + 1
-    size = power_of(base, last[1])
-    past = -(-last[0] * one // size)
-    if has_last and past * size == last[0] * one:
-        past = past + 1
-    return least, past
+    """Return `(least, greatest)` of the whole lengths in a stretch, its ends included, times a power of the base."""
+    first, last, _, _ = stretch
+    least = -(-first[0] * one // power_of(base, first[1]))
+    return least, last[0] * one // power_of(base, last[1])
 
 
 def simplest_member(base, formula):
@@ -69,8 +61,8 @@ def simplest_member(base, formula):
     one = 1
     while True:
         for stretch in lengths:
-            least, past = _whole_lengths(base, stretch, one)
-            for length in range(least, past):
+            least, greatest = _whole_lengths(base, stretch, one)
+            for length in range(least, greatest + 1):
                 low = first_low(base, formula, length)
                 if low is not None:
                     return low, low + length, 0

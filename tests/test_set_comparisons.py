@@ -87,6 +87,20 @@ class Parts(unittest.TestCase):
         whole = RangeSet.every(10)
         self.less(whole - (taken(LENGTH, 2) & counted(LENGTH, 6, 6)), whole)
 
+    def test_sets_of_ranges_of_one_length_only(self):
+        # A range with both ends at multiples of its step and so many marks has one length.
+        both = touched(LENGTH, "low") & touched(LENGTH, "high")
+        everything = RangeSet.every(10)
+        for mantissa in (1, 2, 5):
+            for count in range(2, 7):
+                lone = both & counted(LENGTH, count, count) & taken(LENGTH, mantissa)
+                lengths = [one for one in lone.lengths() if one[0] == one[1]]
+                self.assertEqual(lone.lengths(), lengths)
+                self.assertIs(bool(lone), len(lengths) > 0)
+                self.assertIs(lone == ~everything, len(lengths) == 0)
+                self.assertIs(everything - lone < everything, len(lengths) > 0)
+                self.assertIs(lone.simplest() is None, len(lengths) == 0)
+
     def test_neither_within_the_other(self):
         self.neither(touched(TENS, "low"), touched(TENS, "high"))
         self.neither(taken(TENS, 1), taken(TENS, 2))
